@@ -1,0 +1,1 @@
+"""A dialyser: blood and bath against one another, told in whole numbers."""

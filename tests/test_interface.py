@@ -1,0 +1,68 @@
+"""bloodbath.device.answers: what goes in, what comes back, and what it leaves alone."""
+
+import contextlib
+import io
+import sys
+import unittest
+
+import bloodbath.device
+from bloodbath.device import answers
+from tests.helper import call
+
+FULL = [0, 32, 100, 200, 4, 0, 3, 1, 1, 1, 1, 4, 5000, 20000, 100]
+
+
+class Watched(list):
+    """A list that tells of any try to change it."""
+
+    def refuse(self, *numbers, **named):
+        raise AssertionError("the list handed in was changed")
+
+    append = extend = insert = remove = pop = clear = sort = reverse = refuse
+    __setitem__ = __delitem__ = __iadd__ = __imul__ = refuse
+
+
+class Interface(unittest.TestCase):
+    def test_flat_in_and_flat_out(self):
+        self.assertEqual(bloodbath.device.answers([9, 0]), [1, -2])
+        self.assertEqual(answers([0, 2, 10, 10, 3, 0, 9, 1, 8, 5, 9, 2]), [1, 0, 3, 0, 0, 0, 1, 5, 1, -3])
+
+    def test_numbers_are_whole_numbers_in_a_list(self):
+        told = answers([*FULL, 1, 0, 5, 5, 0, 0, 9, 8, 3, 9, 0, 7, 1001])
+        self.assertIs(type(told), list)
+        self.assertEqual({type(number) for number in told}, {int})
+
+    def test_what_is_handed_in_is_not_changed_for_a_while_either(self):
+        calls = [*FULL, 5, 0, 0, 1000, 8, 600, 9, 0, 9, 31, 0, 2, 1, 1, 4, 1, 9, 1, 9, 2]
+        self.assertEqual(answers(Watched(calls)), answers(calls))
+
+    def test_nothing_is_kept(self):
+        calls = [*FULL, 5, 0, 0, 1000, 8, 600, 9, 0]
+        first = answers(calls)
+        first.append(5)
+        self.assertEqual(answers([9, 0]), [1, -2])
+        self.assertEqual(answers([8, 1]), [1, -2])
+        self.assertEqual(answers(calls), first[:-1])
+
+    def test_nothing_is_printed_or_imported(self):
+        shown = io.StringIO()
+        before = set(sys.modules)
+        with contextlib.redirect_stdout(shown), contextlib.redirect_stderr(shown):
+            answers([*FULL, 5, 0, 0, 1000, 8, 600, 9, 0, 9, 32])
+        self.assertEqual(shown.getvalue(), "")
+        self.assertEqual(set(sys.modules), before)
+
+    def test_as_many_calls_as_there_may_be(self):
+        told = answers([*FULL, *[9, 0] * 397])
+        self.assertEqual(told, [1, 0] * 3 + [4, 0, 0, 0, 0] * 397)
+
+    def test_as_much_work_as_there_may_be(self):
+        calls = list(FULL)
+        for j in range(4):
+            calls += [*call("share", j, 300 + j), *call("dose", j, 0, 10 ** 9), *call("fresh", j, 10 ** 6)]
+        calls += [8, 600] * 33 + [8, 200, 8, 1]
+        self.assertEqual(answers(calls)[-4:], [1, 20000, 1, -7])
+
+
+if __name__ == "__main__":
+    unittest.main()
