@@ -9,6 +9,7 @@ FEWER_SOLUTES = -4
 POOL_TOO_SMALL = -5
 TOO_MUCH_GIVEN = -6
 TOO_MANY_TICKS = -7
+NO_SHARE = -8
 
 MOST_GIVEN = 10000000000
 MOST_TICKS = 20000
@@ -29,10 +30,19 @@ RANGES = (
     ((0, 1000),),
     ((1, 600),),
     ((0, 31),),
+    ((0, 31),),
+    (),
+    ((0, 3),),
+    (),
+    ((0, 3),),
+    ((0, 3),),
+    ((0, 3),),
+    (),
+    ((1, 600), (0, 3)),
 )
 
 # Of the calls that name a solute, by their place: which argument names it.
-SOLUTE_AT = {1: 0, 2: 0, 5: 0, 6: 0}
+SOLUTE_AT = {1: 0, 2: 0, 5: 0, 6: 0, 12: 0, 14: 0, 15: 0, 16: 0, 18: 1}
 
 
 class Rate:
@@ -54,6 +64,11 @@ class Rate:
             return True
         return False
 
+    def twin(self):
+        other = Rate(self.times, self.span)
+        other.parts = self.parts
+        return other
+
 
 class Device:
     """The device, the patient and the solutes; nothing is laid at first."""
@@ -72,13 +87,6 @@ class Device:
         self.blood_rate = Rate(0, 1)
         self.bath_rate = Rate(0, 1)
         self.ticks = 0
-
-    def tick(self):
-        blood_moves = self.blood_rate.gather()
-        bath_moves = self.bath_rate.gather()
-        for solute in self.solutes:
-            solute.tick(self, blood_moves, bath_moves)
-        self.ticks += 1
 
 
 def lay(device, given):
@@ -147,11 +155,20 @@ def set_round(device, given):
     return [0]
 
 
+def pass_ticks(device, solutes, blood_rate, bath_rate, ticks):
+    """So many ticks of these solutes by these rates: the device's own, or copies of them to look ahead with."""
+    for turn in range(ticks):
+        blood_moves = blood_rate.gather()
+        bath_moves = bath_rate.gather()
+        for solute in solutes:
+            solute.tick(device, blood_moves, bath_moves)
+
+
 def run_ticks(device, given):
     if device.ticks + given[0] > MOST_TICKS:
         return [TOO_MANY_TICKS]
-    for turn in range(given[0]):
-        device.tick()
+    pass_ticks(device, device.solutes, device.blood_rate, device.bath_rate, given[0])
+    device.ticks += given[0]
     return [device.ticks]
 
 
@@ -159,6 +176,77 @@ def tell_blood(device, given):
     if given[0] >= device.cells:
         return [NOT_THERE]
     return [solute.blood[given[0]] for solute in device.solutes]
+
+
+def tell_bath(device, given):
+    if given[0] >= device.cells:
+        return [NOT_THERE]
+    return [solute.bath[given[0]] for solute in device.solutes]
+
+
+def tell_patient(device, given):
+    told = []
+    for solute in device.solutes:
+        told.append(solute.pool1)
+        told.append(solute.pool2)
+    return told
+
+
+def tell_totals(device, given):
+    solute = device.solutes[given[0]]
+    return solute.totals()
+
+
+def set_mark(device, given):
+    for solute in device.solutes:
+        solute.mark()
+    return [0]
+
+
+def common_divisor(a, b):
+    while b > 0:
+        rest = a % b
+        a = b
+        b = rest
+    return a
+
+
+def share_gone(before, now):
+    """The share of before that is gone, in lowest terms; none where there was nothing before."""
+    if before == 0:
+        return [NO_SHARE]
+    gone = before - now
+    common = common_divisor(abs(gone), before)
+    return [0, gone // common, before // common]
+
+
+def tell_extraction(device, given):
+    solute = device.solutes[given[0]]
+    return share_gone(solute.went_in, solute.came_out)
+
+
+def tell_reduction(device, given):
+    # Without a mark at_mark is 0 still, so both of the refusal's reasons are one.
+    solute = device.solutes[given[0]]
+    return share_gone(solute.at_mark, solute.pool1)
+
+
+def tell_profile(device, given):
+    solute = device.solutes[given[0]]
+    return solute.blood + solute.bath
+
+
+def tell_look(device, given):
+    laid = [device.cells, device.blood_volume, device.bath_volume, len(device.solutes)]
+    so_far = [device.blood_rate.parts, device.bath_rate.parts, device.ticks]
+    return laid + so_far + [device.volume1, device.volume2, device.between, device.round_share]
+
+
+def tell_would(device, given):
+    # No solute knows of another, so a copy of this one alone, by copies of the rates, goes as it would among all.
+    solute = device.solutes[given[1]].twin()
+    pass_ticks(device, [solute], device.blood_rate.twin(), device.bath_rate.twin(), given[0])
+    return solute.totals()
 
 
 # The calls by their place, as in RANGES.
@@ -173,6 +261,15 @@ CALLS = (
     set_round,
     run_ticks,
     tell_blood,
+    tell_bath,
+    tell_patient,
+    tell_totals,
+    set_mark,
+    tell_extraction,
+    tell_reduction,
+    tell_profile,
+    tell_look,
+    tell_would,
 )
 
 

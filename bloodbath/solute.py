@@ -44,6 +44,37 @@ class Solute:
             self.pool2 += mass
         self.given += mass
 
+    def mark(self):
+        """From now on it is counted anew what goes in and comes out, and held against what is in pool 1 now."""
+        self.went_in = 0
+        self.came_out = 0
+        self.at_mark = self.pool1
+
+    def totals(self):
+        """The five totals, then what is held: in pool 1, in pool 2, in all blood cells, in all bath cells."""
+        counted = [self.given, self.produced, self.come, self.spent, self.thrown]
+        return counted + [self.pool1, self.pool2, sum(self.blood), sum(self.bath)]
+
+    def twin(self):
+        """A copy with cells of its own, so that ticks of the one leave the other as it is."""
+        other = Solute()
+        other.share = self.share
+        other.fresh = self.fresh
+        other.growth = self.growth
+        other.pool1 = self.pool1
+        other.pool2 = self.pool2
+        other.blood = list(self.blood)
+        other.bath = list(self.bath)
+        other.given = self.given
+        other.produced = self.produced
+        other.come = self.come
+        other.spent = self.spent
+        other.thrown = self.thrown
+        other.went_in = self.went_in
+        other.came_out = self.came_out
+        other.at_mark = self.at_mark
+        return other
+
     def tick(self, device, blood_moves, bath_moves):
         """The four steps of a tick, in their order."""
         self.mix_pools(device)

@@ -1,5 +1,6 @@
 """What the tests share: the calls by name, a runner, and a second telling of the document to compare with."""
 
+import copy
 from fractions import Fraction
 from math import floor
 
@@ -19,7 +20,20 @@ DOCUMENT = {
     "round": (7, [(0, 1000)]),
     "tick": (8, [(1, 600)]),
     "blood": (9, [(0, 31)]),
+    "bath": (10, [(0, 31)]),
+    "patient": (11, []),
+    "totals": (12, [(0, 3)]),
+    "mark": (13, []),
+    "extraction": (14, [(0, 3)]),
+    "reduction": (15, [(0, 3)]),
+    "profile": (16, [(0, 3)]),
+    "look": (17, []),
+    "would": (18, [(1, 600), (0, 3)]),
 }
+
+# Of the calls that name a solute: which of their numbers names it.
+SOLUTE_AT = {"share": 0, "fresh": 0, "dose": 0, "produce": 0, "totals": 0, "extraction": 0, "reduction": 0,
+             "profile": 0, "would": 1}
 
 
 def call(name, *numbers):
@@ -59,6 +73,17 @@ def last(*calls):
     return run(*calls)[-1]
 
 
+def all_told(n, k):
+    """The calls that tell, together, all that can be asked of a device with n cells and k solutes."""
+    asked = [call("look"), call("patient")]
+    for i in range(n):
+        asked += [call("blood", i), call("bath", i)]
+    for j in range(k):
+        asked += [call(name, j) for name in ("totals", "extraction", "reduction", "profile")]
+        asked.append(call("would", 7, j))
+    return asked
+
+
 def cells(n, *calls):
     """What is in the n blood cells behind the calls; a number a cell, or a list of them with several solutes."""
     told = run(*calls, *[call("blood", i) for i in range(n)])[-n:]
@@ -84,7 +109,7 @@ class Model:
             return [-1]
         if name != "lay" and self.dev is None:
             return [-2]
-        if name in ("share", "fresh", "dose", "produce") and args[0] >= len(self.sol):
+        if name in SOLUTE_AT and args[SOLUTE_AT[name]] >= len(self.sol):
             return [-3]
         return getattr(self, "do_" + name)(*args)
 
@@ -143,20 +168,60 @@ class Model:
         if self.ticks + t > 20000:
             return [-7]
         for _ in range(t):
-            moves = {}
-            for side in ("blood", "bath"):
-                self.parts[side] += self.rate[side][0]
-                moves[side] = self.parts[side] >= self.rate[side][1]
-                self.parts[side] -= self.rate[side][1] if moves[side] else 0
-            for s in self.sol:
-                self.tick_one(s, moves)
-            self.ticks += 1
+            self.tick_all()
         return [self.ticks]
+
+    def tick_all(self):
+        moves = {}
+        for side in ("blood", "bath"):
+            self.parts[side] += self.rate[side][0]
+            moves[side] = self.parts[side] >= self.rate[side][1]
+            self.parts[side] -= self.rate[side][1] if moves[side] else 0
+        for s in self.sol:
+            self.tick_one(s, moves)
+        self.ticks += 1
 
     def do_blood(self, i):
         if i >= self.dev["n"]:
             return [-3]
         return [s["blood"][i] for s in self.sol]
+
+    def do_bath(self, i):
+        if i >= self.dev["n"]:
+            return [-3]
+        return [s["bath"][i] for s in self.sol]
+
+    def do_patient(self):
+        return [s[name] for s in self.sol for name in ("p1", "p2")]
+
+    def do_totals(self, j):
+        s = self.sol[j]
+        return [s[name] for name in ("given", "produced", "come", "spent", "thrown", "p1", "p2")] + [
+            sum(s["blood"].values()), sum(s["bath"].values())]
+
+    def do_mark(self):
+        for s in self.sol:
+            s.update({"into": 0, "out": 0, "marked": s["p1"]})
+        return [0]
+
+    def do_extraction(self, j):
+        return fraction_told(self.sol[j]["into"], self.sol[j]["out"])
+
+    def do_reduction(self, j):
+        return fraction_told(self.sol[j]["marked"], self.sol[j]["p1"])
+
+    def do_profile(self, j):
+        return [self.sol[j][side][i] for side in ("blood", "bath") for i in range(self.dev["n"])]
+
+    def do_look(self):
+        return [self.dev["n"], self.dev["bv"], self.dev["dv"], len(self.sol), self.parts["blood"], self.parts["bath"],
+                self.ticks, self.pat["v1"], self.pat["v2"], self.pat["x"], self.pat["r"]]
+
+    def do_would(self, t, j):
+        ahead = copy.deepcopy(self)
+        for _ in range(t):
+            ahead.tick_all()
+        return ahead.do_totals(j)
 
     def tick_one(self, s, moves):
         s["p2"] += s["g"]
@@ -197,6 +262,13 @@ def model_run(*calls):
     model = Model()
     names = {place: name for name, (place, ranges) in DOCUMENT.items()}
     return [model.answer(names[one[0]], one[1:]) for one in calls]
+
+
+def fraction_told(whole, left):
+    if whole == 0:
+        return [-8]
+    gone = Fraction(whole - left, whole)
+    return [0, gone.numerator, gone.denominator]
 
 
 def exchanged(a, v, b, w, z):

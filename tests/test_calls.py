@@ -1,13 +1,16 @@
-"""Promises 0 to 7 and 9: what each call answers, its ranges and its refusals."""
+"""All calls' ranges and refusals, and promises 0 to 7 and 9: what each of these calls answers."""
 
 import unittest
 
-from tests.helper import DOCUMENT, HUGE, call, cells, last, model_run, run
+from tests.helper import DOCUMENT, HUGE, SOLUTE_AT, all_told, call, cells, last, model_run, run
 
 LAY = call("lay", 2, 10, 10, 1, 0)
 LAY4 = call("lay", 32, 10, 10, 4, 0)
 # With these, a tick draws all of pool 1 into blood cell 0.
 DRAW = (call("pool", 10, 0, 0), call("rates", 1, 1, 0, 1))
+# What the calls that tell something answer behind LAY4; all others answer 0.
+TOLD = {"blood": [0] * 4, "bath": [0] * 4, "patient": [0] * 8, "totals": [0] * 9, "extraction": [-8],
+        "reduction": [-8], "profile": [0] * 64, "would": [0] * 9}
 
 
 def fitting(name):
@@ -39,10 +42,8 @@ class Ranges(unittest.TestCase):
                         self.assertEqual(told, [-5])
                     elif name == "tick":
                         self.assertEqual(told, [number])
-                    elif name == "blood":
-                        self.assertEqual(told, [0, 0, 0, 0])
                     else:
-                        self.assertEqual(told, [0])
+                        self.assertEqual(told, TOLD.get(name, [0]))
 
     def test_one_beyond_each_end(self):
         for name, at, low, high in self.each_argument():
@@ -72,6 +73,11 @@ class Refusals(unittest.TestCase):
         self.assertEqual(last(call("share", 3, 1)), [-2])
         self.assertEqual(last(call("pool", 0, 0, 0)), [-2])
         self.assertEqual(last(call("blood", 31)), [-2])
+        self.assertEqual(last(call("bath", 31)), [-2])
+        self.assertEqual(last(call("would", 600, 3)), [-2])
+        for name in ("totals", "extraction", "reduction", "profile"):
+            for j in range(4):
+                self.assertEqual(last(call(name, j)), [-2])
 
     def test_a_refused_lay_lays_nothing(self):
         self.assertEqual(run(call("lay", 1, 10, 10, 1, 0), call("blood", 0)), [[-1], [-2]])
@@ -84,6 +90,18 @@ class Refusals(unittest.TestCase):
                 wanted = [0] if j < k else [-3]
                 for one in (call("share", j, 5), call("fresh", j, 5), call("dose", j, 0, 5), call("produce", j, 5)):
                     self.assertEqual(last(lay, one), wanted)
+                for one in (call("totals", j), call("would", 1, j), call("would", 600, j)):
+                    self.assertEqual(last(lay, one), [0] * 9 if j < k else [-3])
+                self.assertEqual(last(lay, call("profile", j)), [0] * 4 if j < k else [-3])
+                for one in (call("extraction", j), call("reduction", j)):
+                    self.assertEqual(last(lay, one), [-8] if j < k else [-3])
+
+    def test_every_call_with_a_solute_is_refused_where_there_is_none(self):
+        for name, at in SOLUTE_AT.items():
+            for j in (1, 2, 3):
+                numbers = fitting(name)
+                numbers[at] = j
+                self.assertEqual(last(LAY, call(name, *numbers)), [-3], name)
 
     def test_range_comes_before_no_such_solute(self):
         self.assertEqual(last(LAY, call("share", 3, 1001)), [-1])
@@ -91,13 +109,26 @@ class Refusals(unittest.TestCase):
         self.assertEqual(last(LAY, call("dose", 3, 2, 0)), [-1])
         self.assertEqual(last(LAY, call("produce", 3, 1000001)), [-1])
         self.assertEqual(last(LAY, call("share", 4, 0)), [-1])
+        for t in (0, -1, 601, HUGE, -HUGE):
+            self.assertEqual(last(LAY, call("would", t, 3)), [-1])
+            self.assertEqual(last(call("would", t, 3)), [-1])
+        self.assertEqual(last(LAY, call("would", 1, 4)), [-1])
 
     def test_no_such_cell(self):
         for n in (2, 3, 31, 32):
             lay = call("lay", n, 10, 10, 1, 0)
             for i in range(32):
                 self.assertEqual(last(lay, call("blood", i)), [0] if i < n else [-3])
+                self.assertEqual(last(lay, call("bath", i)), [0] if i < n else [-3])
             self.assertEqual(last(lay, call("blood", 32)), [-1])
+            self.assertEqual(last(lay, call("bath", 32)), [-1])
+
+    def test_cells_are_those_of_the_newest_device(self):
+        for name in ("blood", "bath"):
+            lays = (call("lay", 3, 10, 10, 1, 0), call("lay", 5, 10, 10, 1, 0), call("lay", 2, 10, 10, 1, 0))
+            told = run(*[one for lay in lays for one in (lay, *[call(name, i) for i in range(6)])])
+            cells_told = [told[at + 1:at + 7] for at in (0, 7, 14)]
+            self.assertEqual(cells_told, [[[0]] * n + [[-3]] * (6 - n) for n in (3, 5, 2)])
 
     def test_no_such_solute_comes_before_too_much_given(self):
         full = [call("dose", 0, 0, 1000000000)] * 10
@@ -113,9 +144,13 @@ class Refusals(unittest.TestCase):
                    call("rates", 3, 2, 1, 1), call("rates", 1, 1, 3, 2), call("rates", 0, 0, 0, 1),
                    call("pool", 9, 5, 5), call("pool", 20, 20, 1001), call("dose", 2, 0, 5), call("dose", 0, 2, 5),
                    call("dose", 0, 0, -1), call("produce", 2, 5), call("produce", 0, -1), call("round", 1001),
-                   call("tick", 0), call("tick", 601), call("blood", 2), call("blood", -1)]
-        watch = [call("tick", 3), call("blood", 0), call("blood", 1), call("tick", 4), call("blood", 0),
-                 call("blood", 1)]
+                   call("tick", 0), call("tick", 601), call("blood", 2), call("blood", -1), call("bath", 2),
+                   call("bath", 32), call("totals", 2), call("totals", 4), call("extraction", 3),
+                   call("extraction", -1), call("reduction", 0), call("reduction", 1), call("reduction", 2),
+                   call("reduction", 4), call("profile", 2), call("profile", -1), call("would", 0, 0),
+                   call("would", 601, 1), call("would", 600, 2), call("would", 1, 4)]
+        ask = all_told(2, 2)
+        watch = [*ask, call("tick", 3), *ask, call("mark"), call("tick", 4), *ask]
         plain = run(*base, *watch)[len(base):]
         self.assertNotIn([0, 0], plain)
         for one in refused:

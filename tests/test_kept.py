@@ -1,10 +1,10 @@
-"""What a solute and the device hold that no call of the places 0 to 9 tells."""
+"""What a solute and the device hold between the calls, whether a call tells it or not."""
 
 import unittest
 
 from bloodbath.device import Device, answer
 from bloodbath.solute import crossing
-from tests.helper import call
+from tests.helper import all_told, call
 
 
 def device_behind(*calls):
@@ -143,10 +143,33 @@ class Refused(unittest.TestCase):
                    (call("share", 3, 7), -3), (call("fresh", 2, 7), -3), (call("rates", 2, 1, 0, 1), -1),
                    (call("pool", 9, 1, 1), -5), (call("dose", 1, 0, 1), -6), (call("dose", 2, 0, 1), -3),
                    (call("produce", 2, 1), -3), (call("round", -1), -1), (call("tick", 2), -7), (call("tick", 601), -1),
-                   (call("blood", 2), -3))
+                   (call("blood", 2), -3), (call("bath", 2), -3), (call("totals", 2), -3), (call("extraction", 2), -3),
+                   (call("reduction", 2), -3), (call("profile", 3), -3), (call("would", 600, 2), -3),
+                   (call("would", 601, 2), -1), (call("reduction", 0), -8))
         for one, number in refused:
             self.assertEqual(answer(device, one[0], list(one[1:])), [number], one)
             self.assertEqual(held(device), before, one)
+
+
+class Asked(unittest.TestCase):
+    def test_nothing_kept_is_changed(self):
+        device = device_behind(call("lay", 2, 10, 10, 2, 1), call("pool", 20, 20, 100), call("rates", 2, 3, 3, 4),
+                               call("share", 0, 400), call("fresh", 1, 50), call("produce", 0, 30),
+                               call("dose", 0, 0, 1007), call("tick", 5), call("mark"), call("tick", 2))
+        before = held(device)
+        for one in all_told(2, 2) + [call("would", 600, 0), call("would", 1, 1)]:
+            told = answer(device, one[0], list(one[1:]))
+            told.clear()
+            self.assertEqual(held(device), before, one)
+
+    def test_a_mark_changes_only_what_is_since_the_mark(self):
+        device = device_behind(*BASE, call("dose", 0, 0, 1007), call("round", 250), call("tick", 3))
+        before = held(device)
+        answer(device, 13, [])
+        solute = device.solutes[0]
+        self.assertEqual((solute.went_in, solute.came_out, solute.at_mark), (0, 0, solute.pool1))
+        before["solutes"][0].update(went_in=0, came_out=0, at_mark=solute.pool1)
+        self.assertEqual(held(device), before)
 
 
 class Exchange(unittest.TestCase):

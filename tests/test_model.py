@@ -4,7 +4,7 @@ import random
 import unittest
 
 from bloodbath.device import Device, answer
-from tests.helper import DOCUMENT, HUGE, Model, call, model_run, run
+from tests.helper import DOCUMENT, HUGE, SOLUTE_AT, Model, all_told, call, model_run, run
 
 NAMES = {"s": "share", "fresh": "fresh", "g": "growth", "p1": "pool1", "p2": "pool2", "given": "given",
          "produced": "produced", "come": "come", "spent": "spent", "thrown": "thrown", "into": "went_in",
@@ -23,16 +23,16 @@ def number_for(draw, low, high):
 
 
 def some_call(draw, small):
-    name = draw.choice([*DOCUMENT, "tick", "blood", "blood", "dose", "share", "share"])
+    name = draw.choice([*DOCUMENT, "tick", "tick", "dose", "dose", "share", "fresh"])
     numbers = [number_for(draw, low, high) for low, high in DOCUMENT[name][1]]
     if name == "rates":
         numbers[0] = min(numbers[0], numbers[1]) if draw.random() < 0.9 else numbers[0]
         numbers[2] = min(numbers[2], numbers[3]) if draw.random() < 0.9 else numbers[2]
-    if small and name == "tick" and draw.random() < 0.95:
+    if small and name in ("tick", "would") and draw.random() < 0.97:
         numbers[0] = draw.randint(1, 12)
-    if small and name in ("share", "fresh", "dose", "produce"):
-        numbers[0] = draw.randint(0, 3)
-    if small and name == "blood":
+    if small and name in SOLUTE_AT:
+        numbers[SOLUTE_AT[name]] = draw.randint(0, 3)
+    if small and name in ("blood", "bath"):
         numbers[0] = draw.randint(0, 5)
     if small and name == "lay":
         numbers[0] = draw.randint(2, 6)
@@ -56,6 +56,22 @@ class Against(unittest.TestCase):
             draw = random.Random(1000 + seed)
             calls = [some_call(draw, False) for at in range(40)]
             self.assertEqual(run(*calls), model_run(*calls), f"seed {seed}")
+
+    def test_as_many_calls_as_there_may_be(self):
+        for seed in range(8):
+            draw = random.Random(3000 + seed)
+            calls = [some_call(draw, True) for at in range(400)]
+            told = run(*calls)
+            self.assertEqual(told, model_run(*calls), f"seed {seed}")
+            self.assertEqual({one[0] for one in calls}, set(range(19)), f"seed {seed}")
+
+    def test_all_that_can_be_asked_behind_each_call(self):
+        for seed in range(25):
+            draw = random.Random(4000 + seed)
+            calls = [call("lay", 3, draw.randint(1, 50), draw.randint(1, 50), 2, draw.randint(0, 1))]
+            for at in range(20):
+                calls += [some_call(draw, True), *all_told(3, 2)]
+            self.assertEqual(run(*calls[:400]), model_run(*calls[:400]), f"seed {seed}")
 
     def test_all_that_is_kept(self):
         for seed in range(60):
